@@ -1,0 +1,1 @@
+"""Mixbench: rows of tones mixed in exact steps."""
