@@ -1,14 +1,9 @@
 """Fractions: tuples (top, bottom) in lowest terms, bottom from 1 on, and their texts."""
 
 from mixbench.errors import NoNumber, NoText
+from mixbench.wholes import is_figures, is_whole
 
-FIGURES = "0123456789"
 MOST_FIGURES = 9
-
-
-def is_whole(value):
-    # Python counts True and False as ints; here they are no numbers.
-    return isinstance(value, int) and not isinstance(value, bool)
 
 
 def divisor(one, other):
@@ -60,14 +55,6 @@ def fraction_text(one):
     top = one[0]
     bottom = one[1]
     return f"{top}/{bottom}"
-
-
-def is_figures(text):
-    # Not isdigit: it takes figures of other scripts too.
-    for sign in text:
-        if sign not in FIGURES:
-            return False
-    return text != ""
 
 
 def read_fraction(text):
