@@ -155,7 +155,9 @@ class AskersOwn(unittest.TestCase):
                 row = chain.through(handed, 6)
                 self.assertEqual(handed, block)
                 told += tones_of(row)
+                kept = list(row[0])
                 spoil(handed)
+                self.assertEqual(row[0], kept)
                 spoil(row)
             self.assertEqual(told, fed(words, [ROW], 6))
 

@@ -1,5 +1,6 @@
 """Patches [19] to [22], with what [2] and [3] tell of them."""
 
+import copy
 import time
 import unittest
 
@@ -15,7 +16,8 @@ NO_CHAINS = [None, "", "gain:1/2", (), ("gain:1/2",), True, 0, {}, [""], ["gain"
 
 
 def told(patch):
-    return (patch.tracks(), patch.buses(), patch.sends(), patch.outs(), patch.order())
+    # A copy, so that a list which the patch itself keeps could not hide a change.
+    return copy.deepcopy((patch.tracks(), patch.buses(), patch.sends(), patch.outs(), patch.order()))
 
 
 def some_patch():
@@ -264,6 +266,22 @@ class Rings(Case):
         self.check_ring(patch, names[10], names[3])
         patch.send(names[0], names[-1], ["gain:1/7"])
         self.assertEqual(patch.sends()[-1], (names[0], names[-1], ["gain:1/7"]))
+        self.assertEqual(patch.order(), names)
+        patch.track("voice")
+        patch.send("voice", names[0], [])
+        self.assertLess(time.monotonic() - begun, 10)
+
+    def test_twenty_buses_told_from_the_last_one_on(self):
+        begun = time.monotonic()
+        patch = Patch()
+        names = ["bus" + letter for letter in "abcdefghijklmnopqrst"]
+        for name in names:
+            patch.bus(name)
+        # Each send is looked at with all ways behind its bus, none of which leads back.
+        for source, bus in list(zip(names, names[1:]))[::-1]:
+            for turn in range(3):
+                patch.send(source, bus, [])
+        self.check_ring(patch, names[-1], names[0])
         self.assertEqual(patch.order(), names)
         self.assertLess(time.monotonic() - begun, 10)
 

@@ -2,27 +2,14 @@
 
 import unittest
 from fractions import Fraction
-from math import floor, lcm
+from math import lcm
 
-from helpers import NO_WHOLE_NUMBERS, check_own, cut, cuttings, pair, some_row
+from helpers import NO_WHOLE_NUMBERS, check_own, cut, cuttings, pair, some_row, settled
 from mixbench.errors import NoNumber
 from mixbench.settlers import Settler
 
 MOST = 1000000000000
 HALF = Fraction(1, 2)
-
-
-def awaited(tones, greatest):
-    """What is told, the rest, and how many were cut, by the words of [10]."""
-    rest = Fraction(0)
-    told = []
-    for tone in tones:
-        value = tone + rest
-        settled = floor(value + HALF)
-        rest = value - settled
-        told.append(settled)
-    cuts = len([tone for tone in told if abs(tone) > greatest])
-    return ([max(-greatest, min(greatest, tone)) for tone in told], rest, cuts)
 
 
 def asked(tops, bottom, greatest):
@@ -48,7 +35,7 @@ class Made(unittest.TestCase):
 class Settled(unittest.TestCase):
     def check(self, tops, bottom, greatest=MOST):
         told, rest, cuts = asked(tops, bottom, greatest)
-        want = awaited([Fraction(top, bottom) for top in tops], greatest)
+        want = settled([Fraction(top, bottom) for top in tops], greatest)
         self.assertEqual((told, rest, cuts), (want[0], pair(want[1]), want[2]))
         self.assertIs(type(told), list)
         self.assertIs(type(rest), tuple)
@@ -160,7 +147,7 @@ class InBlocks(unittest.TestCase):
             tops = some_row(at, 5)
             told += settler.settle(tops, bottom)
             tones += [Fraction(top, bottom) for top in tops]
-        self.assertEqual((told, settler.rest), (awaited(tones, MOST)[0], pair(awaited(tones, MOST)[1])))
+        self.assertEqual((told, settler.rest), (settled(tones, MOST)[0], pair(settled(tones, MOST)[1])))
         row = [int(tone * lcm(9, 4, 5, 7)) for tone in tones]
         self.assertEqual(asked(row, lcm(9, 4, 5, 7), MOST), (told, settler.rest, 0))
 
